@@ -1,0 +1,97 @@
+"""The words of the document, walked count by count: slow, and apart from the package."""
+
+import random
+
+ALWAYS = ((),)
+NEVER = ()
+ENGLISH = (
+    ("one", ((("whole", 0, 1, 1, True), ("places", 0, 0, 0, True)),)),
+    ("other", ((("whole", 0, 1, 1, False),), (("places", 0, 0, 0, False),))),
+)
+# 320, the last whole of the first far round, is the first one above 200 that leaves 8 by 24 and 0 by 40.
+FAR_END = (("most", ((("whole", 0, 0, 200, True),), (("whole", 24, 8, 8, False),), (("whole", 40, 0, 0, False),))),)
+MANY_RESTS = (
+    ("none", ((("rest", 0, 0, 0, True),),)),
+    ("tenth", ((("rest", 10, 0, 0, True), ("rest", 0, 0, 0, False)),)),
+    ("odd", ((("rest", 10, 0, 0, False), ("whole", 2, 1, 1, True)),)),
+    ("even", ((("rest", 10, 0, 0, False), ("whole", 2, 0, 0, True)),)),
+)
+
+
+def number_of(what, n, d):
+    return {"whole": n // 10 ** d, "rest": n % 10 ** d, "places": d}[what]
+
+
+def is_so(test, n, d):
+    what, by, low, high, yes = test
+    number = number_of(what, n, d)
+    if by:
+        number = number % by
+    inside = low <= number and number <= high
+    return inside if yes else not inside
+
+
+def words_of(forms, n, d):
+    words = []
+    for word, rule in forms:
+        for row in rule:
+            if not [test for test in row if not is_so(test, n, d)]:
+                words.append(word)
+                break
+    return tuple(words)
+
+
+def first_amiss(forms):
+    for d in range(3):
+        for n in range(321 * 10 ** d):
+            words = words_of(forms, n, d)
+            if len(words) == 0:
+                return ("none", (n, d))
+            if len(words) > 1:
+                return ("two", (n, d))
+    return ("just",)
+
+
+def last_so(forms, word, low, high, d):
+    for n in range(high, low - 1, -1):
+        if words_of(forms, n, d)[:1] == (word,):
+            return n
+    return None
+
+
+def some_test(some, bys):
+    what = some.choice(("whole", "whole", "rest", "places"))
+    by = some.choice(bys)
+    top = {"places": 2, "rest": 99}.get(what, 200)
+    low = some.randint(0, min(top, by or top))
+    high = some.randint(low, some.choice((low, min(low + 5, 200), min(max(low, top), 200))))
+    return (what, by, low, high, some.random() < 0.6)
+
+
+def some_forms(some):
+    bys = some.choice(((0,), (0, 2, 3, 10), (0, 0, 8, 15), (0, 24, 40), (0, 60), (0, 7, 5, 3)))
+    forms = []
+    for word in some.sample(("one", "few", "many", "other", "two", "zero"), some.randint(1, 6)):
+        rows = [tuple([some_test(some, bys) for test in range(some.randint(0, 4))]) for row in range(some.randint(0, 4))]
+        forms.append((word, tuple(rows)))
+    return tuple(forms)
+
+
+def some_split(some):
+    """Forms that cover by how they are made: a word is split by a test, again and again."""
+    bys = some.choice(((0,), (0, 2, 3, 10), (0, 8, 15), (0, 24, 40)))
+    rows = [()]
+    while len(rows) < some.randint(2, 6):
+        row = rows.pop(some.randrange(len(rows)))
+        if len(row) == 4:
+            rows.append(row)
+            continue
+        what, by, low, high, yes = some_test(some, bys)
+        rows += [row + ((what, by, low, high, True),), row + ((what, by, low, high, False),)]
+    some.shuffle(rows)
+    words = ["one", "few", "many", "other", "two", "zero"][:len(rows)]
+    return tuple([(word, (row,)) for word, row in zip(words, rows)])
+
+
+def seeded(number):
+    return random.Random(number)
