@@ -95,3 +95,81 @@ def some_split(some):
 
 def seeded(number):
     return random.Random(number)
+
+
+FIGURES = "0123456789"
+
+
+def plain_width(measure, text):
+    wide = 0
+    for sign in text:
+        told = [pair[1] for pair in measure if sign in pair[0]]
+        wide += told[0] if told else 1
+    return wide
+
+
+def lines_of(measure, wide, text):
+    """The lines of a text, each tried with one word more as a whole."""
+    words = [""]
+    for sign in text:
+        if sign == " ":
+            words.append("")
+        else:
+            words[-1] += sign
+    if max([plain_width(measure, word) for word in words]) > wide:
+        return None
+    lines = [words[0]]
+    for word in words[1:]:
+        longer = lines[-1] + " " + word
+        if plain_width(measure, longer) <= wide:
+            lines[-1] = longer
+        else:
+            lines.append(word)
+    return tuple(lines)
+
+
+def some_measure(some):
+    signs = list("abcdefghijklmnopqrstuvwxyzABIMW.,' ") + [FIGURES]
+    some.shuffle(signs)
+    pairs = []
+    for pair in range(some.randint(0, 6)):
+        own = [signs.pop() for sign in range(some.randint(0, 5))]
+        pairs.append(("".join(own + own[:some.randint(0, 1)]), some.randint(0, 4)))
+    return tuple(pairs)
+
+
+def some_name(some):
+    return "".join([some.choice("abcxyz") for letter in range(some.choice((1, 1, 2, 8)))])
+
+
+def some_blank(some, name):
+    sort = some.choice(("number", "number", "word", "day"))
+    if sort == "number":
+        low = some.choice((0, 1, some.randint(0, 300), some.randint(0, 10 ** 12)))
+        high = min(10 ** 12, low + some.choice((0, 3, some.randint(0, 200), 10 ** 12)))
+        return (name, sort, (low, high, some.randint(0, 2)))
+    if sort == "word":
+        kinds = some.sample(("he", "she", "it", "thing", "a"), some.randint(1, 4))
+        return (name, sort, (some.randint(1, 12), tuple(kinds)))
+    return (name, sort, ())
+
+
+def some_blanks(some):
+    names = sorted({some_name(some) for name in range(some.randint(0, 4))})
+    return tuple([some_blank(some, name) for name in names])
+
+
+def some_thing(some, blank):
+    name, sort, more = blank
+    if sort == "number":
+        low, high, d = more
+        return (some.choice((low, high, some.randint(low, high))), d)
+    if sort == "word":
+        most, kinds = more
+        text = "".join([some.choice("abimwz") for letter in range(some.choice((1, most, some.randint(1, most))))])
+        return (text, some.choice(kinds))
+    return (some.choice((0, 9999, some.randint(0, 9999))), some.randint(1, 12), some.randint(1, 31))
+
+
+def some_given(some, blanks):
+    return {blank[0]: some_thing(some, blank) for blank in blanks}

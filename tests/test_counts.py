@@ -1,6 +1,6 @@
-import copy
 import unittest
 
+from tests.bending import OTHERS, Says, bent, nested
 from tests.oracle import ALWAYS, ENGLISH, NEVER, seeded, some_forms, words_of
 from tonguehouse.counts import forms_of, is_count, is_forms, parts_of
 
@@ -14,26 +14,10 @@ GOOD = (
     (("a", ((("rest", 0, 0, 200, False), ("places", 2, 200, 200, True)),)),),
     (("a", ((("whole", 60, 0, 0, True), ("rest", 24, 0, 0, True), ("places", 40, 1, 1, True)),)),),
 )
-OTHERS = (None, True, False, 0, 1, -1, 3, 10 ** 39, "", "a", "whole", "a\nb", (), [], {}, {"a": 1}, ((),), [[]], (None,))
 
 
 def form_with(test):
     return (("a", ((test,),)),)
-
-
-def bent(thing):
-    """All that comes of putting another thing in the stead of one part, or a list in that of a tuple."""
-    for other in OTHERS:
-        if type(other) is not type(thing) or other != thing:
-            yield other
-    if isinstance(thing, tuple):
-        yield list(thing)
-        yield {str(at): part for at, part in enumerate(thing)}
-        yield thing + (None,)
-        for at, part in enumerate(thing):
-            yield thing[:at] + thing[at + 1:]
-            for other in bent(part):
-                yield thing[:at] + (other,) + thing[at + 1:]
 
 
 def plainly_forms(thing):
@@ -69,58 +53,53 @@ def forms_are_right(thing):
     return len(words) == len(set(words)) and bool(rounds)
 
 
-class IsForms(unittest.TestCase):
-    def says(self, thing, answer):
-        before = copy.deepcopy(thing)
-        self.assertIs(is_forms(thing), answer, thing)
-        self.assertEqual(repr(thing), repr(before))
-
+class IsForms(Says, unittest.TestCase):
     def test_forms_that_are_such(self):
         for forms in GOOD:
-            self.says(forms, True)
+            self.says(is_forms, forms, True)
         some = seeded(5)
         for time in range(200):
-            self.says(some_forms(some), True)
+            self.says(is_forms, some_forms(some), True)
 
     def test_things_of_other_kinds(self):
         for thing in OTHERS + (("a", ALWAYS), [("a", ALWAYS)], {"a": ALWAYS}, "forms"):
-            self.says(thing, False)
+            self.says(is_forms, thing, False)
 
     def test_each_part_bent_at_any_depth(self):
         for forms in GOOD:
             for thing in bent(forms):
-                self.says(thing, plainly_forms(thing))
+                self.says(is_forms, thing, plainly_forms(thing))
 
     def test_lists_for_tuples(self):
-        self.says([("a", ((TEST,),))], False)
-        self.says((["a", ((TEST,),)],), False)
-        self.says((("a", [(TEST,)]),), False)
-        self.says((("a", ([TEST],)),), False)
-        self.says((("a", ((list(TEST),),)),), False)
+        self.says(is_forms, [("a", ((TEST,),))], False)
+        self.says(is_forms, (["a", ((TEST,),)],), False)
+        self.says(is_forms, (("a", [(TEST,)]),), False)
+        self.says(is_forms, (("a", ([TEST],)),), False)
+        self.says(is_forms, (("a", ((list(TEST),),)),), False)
 
     def test_truths_for_numbers_and_numbers_for_truths(self):
         for test in (("whole", False, 0, 1, True), ("whole", 0, False, 1, True), ("whole", 0, 0, True, True),
                      ("whole", 0, 0, 1, 1), ("whole", 0, 0, 1, 0), ("whole", 0, 0, 1, None)):
-            self.says(form_with(test), False)
+            self.says(is_forms, form_with(test), False)
 
     def test_what(self):
         for what in ("whole", "rest", "places"):
-            self.says(form_with((what, 0, 0, 1, True)), True)
+            self.says(is_forms, form_with((what, 0, 0, 1, True)), True)
         for what in ("", "Whole", "n", None, 0, ("whole",), ["whole"], {}):
-            self.says(form_with((what, 0, 0, 1, True)), False)
+            self.says(is_forms, form_with((what, 0, 0, 1, True)), False)
 
     def test_bounds_of_by(self):
         for by in range(-2, 64):
-            self.says(form_with(("whole", by, 0, 1, True)), by == 0 or 2 <= by <= 60)
+            self.says(is_forms, form_with(("whole", by, 0, 1, True)), by == 0 or 2 <= by <= 60)
 
     def test_bounds_of_low_and_high(self):
         for low, high, answer in ((0, 0, True), (200, 200, True), (0, 200, True), (-1, 5, False), (0, 201, False),
                                   (201, 201, False), (5, 4, False), (5, 5, True), (0, -1, False), (0, 10 ** 39, False)):
-            self.says(form_with(("rest", 0, low, high, False)), answer)
+            self.says(is_forms, form_with(("rest", 0, low, high, False)), answer)
 
     def test_how_long_a_test_is(self):
-        self.says(form_with(TEST[:4]), False)
-        self.says(form_with(TEST + (True,)), False)
+        self.says(is_forms, form_with(TEST[:4]), False)
+        self.says(is_forms, form_with(TEST + (True,)), False)
 
     def test_least_common_multiple_of_all_by(self):
         for bys, answer in (((24, 40), True), ((8, 15), True), ((60, 8), True), ((60, 16), False), ((11, 11), True),
@@ -130,30 +109,27 @@ class IsForms(unittest.TestCase):
             in_rows = (("a", tuple([(("rest", by, 0, 1, True),) for by in bys])),)
             in_tests = (("a", (tuple([("places", by, 0, 1, True) for by in bys]),)),)
             for forms in (across, in_rows, in_tests):
-                self.says(forms, answer)
-        self.says((("a", ((("whole", 11, 0, 1, True),),)), ("b", ((("rest", 12, 0, 1, True),),))), False)
+                self.says(is_forms, forms, answer)
+        self.says(is_forms, (("a", ((("whole", 11, 0, 1, True),),)), ("b", ((("rest", 12, 0, 1, True),),))), False)
 
     def test_words_are_unlike_names(self):
-        self.says((("a", ALWAYS), ("a", NEVER)), False)
-        self.says((("a", ALWAYS), ("b", NEVER), ("a", ((TEST,),))), False)
+        self.says(is_forms, (("a", ALWAYS), ("a", NEVER)), False)
+        self.says(is_forms, (("a", ALWAYS), ("b", NEVER), ("a", ((TEST,),))), False)
         for word in ("", "abcdefghi", "A", "a1", "a b", "a\n", "\xe9", None, True, 0, ("a",), ["a"], {"a": 1}):
-            self.says(((word, ALWAYS),), False)
+            self.says(is_forms, ((word, ALWAYS),), False)
 
     def test_how_many_forms_rows_and_tests(self):
-        self.says((), False)
-        self.says(tuple([(word, ALWAYS) for word in "abcdefg"]), False)
-        self.says((("a", ((),) * 5),), False)
-        self.says((("a", ((TEST,) * 5,)),), False)
-        self.says((("a",),), False)
-        self.says((("a", ALWAYS, ALWAYS),), False)
+        self.says(is_forms, (), False)
+        self.says(is_forms, tuple([(word, ALWAYS) for word in "abcdefg"]), False)
+        self.says(is_forms, (("a", ((),) * 5),), False)
+        self.says(is_forms, (("a", ((TEST,) * 5,)),), False)
+        self.says(is_forms, (("a",),), False)
+        self.says(is_forms, (("a", ALWAYS, ALWAYS),), False)
 
     def test_deep_and_wide_things(self):
-        deep = ()
-        for time in range(23):
-            deep = (deep,)
-        self.says(deep, False)
-        self.says((("a", deep),), False)
-        self.says((None,) * 1999, False)
+        self.says(is_forms, nested(23), False)
+        self.says(is_forms, (("a", nested(21)),), False)
+        self.says(is_forms, (None,) * 1999, False)
 
 
 class IsCount(unittest.TestCase):

@@ -1,6 +1,6 @@
 import unittest
 
-from tonguehouse.kinds import is_name, is_number, is_text, is_tuple, is_tuple_of
+from tonguehouse.kinds import are_rising, are_unlike, is_name, is_number, is_text, is_tuple, is_tuple_of, is_word
 
 
 class Kinds(unittest.TestCase):
@@ -44,6 +44,21 @@ class Kinds(unittest.TestCase):
         self.assertIs(is_tuple_of(("a", "b"), 1, 2, is_name), True)
         self.assertIs(is_tuple_of(("a", 2), 1, 2, is_name), False)
         self.assertIs(is_tuple_of((), 0, 2, is_name), True)
+
+    def test_words_are_small_letters_up_to_a_bound(self):
+        for thing in ("a", "z", "abc"):
+            self.assertIs(is_word(thing, 3), True)
+        for thing in ("", "abcd", "A", "a1", "a b", "a\n", None, True, 3, ("a",), ["a"]):
+            self.assertIs(is_word(thing, 3), False)
+
+    def test_unlike_and_rising(self):
+        for things, unlike, rising in (((), True, True), (("a",), True, True), (("a", "b"), True, True),
+                                       (("b", "a"), True, False), (("a", "a"), False, False),
+                                       (("a", "b", "a"), False, False), (("a", "aa", "b"), True, True)):
+            self.assertIs(are_unlike(things), unlike)
+            self.assertIs(are_rising(things), rising)
+        self.assertIs(are_rising((("a", "b"), ("a", "c"), ("b", "a"))), True)
+        self.assertIs(are_rising((("a", "b"), ("a", "b"))), False)
 
 
 if __name__ == "__main__":

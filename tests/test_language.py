@@ -107,6 +107,26 @@ class Language(unittest.TestCase):
                 self.assertRegex(name, r"^[A-Za-z][A-Za-z0-9_]*$", path)
                 self.assertNotIn(name, barred, path)
 
+    def test_no_local_name_is_that_of_an_import_and_none_is_bound_twice(self):
+        for path, tree in trees():
+            imported = [alias.name for node in tree.body if isinstance(node, ast.ImportFrom) for alias in node.names]
+            bound = [node.name for node in tree.body if isinstance(node, (ast.FunctionDef, ast.ClassDef))]
+            bound += [target.id for node in tree.body if isinstance(node, ast.Assign) for target in node.targets]
+            self.assertEqual(len(set(imported + bound)), len(imported + bound), path)
+            rest = ast.Module([node for node in tree.body if not isinstance(node, ast.ImportFrom)], [])
+            self.assertEqual(own_names(rest) & set(imported), set(), path)
+            used = {node.id for node in ast.walk(rest) if isinstance(node, ast.Name)}
+            self.assertEqual(set(imported) - used, set(), path)
+
+    def test_no_two_files_import_from_each_other(self):
+        homes = {}
+        for path, tree in trees():
+            homes[path.stem] = {node.module.split(".")[1] for node in tree.body if isinstance(node, ast.ImportFrom)}
+        while homes:
+            free = [stem for stem in homes if not homes[stem] & set(homes)]
+            self.assertNotEqual(free, [], homes)
+            homes = {stem: homes[stem] for stem in homes if stem not in free}
+
     def test_only_allowed_builtins_and_methods(self):
         own = set()
         for path, tree in trees():

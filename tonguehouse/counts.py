@@ -1,6 +1,6 @@
 """Counts, the tests and rules that hold of them, and the forms of a tongue."""
 
-from tonguehouse.kinds import is_name, is_number, is_tuple, is_tuple_of
+from tonguehouse.kinds import are_unlike, is_name, is_number, is_tuple, is_tuple_of
 
 MOST_PLACES = 2
 WHATS = ("whole", "rest", "places")
@@ -61,7 +61,7 @@ def is_forms(thing):
     """Whether it is forms, whatever it is."""
     if not is_tuple_of(thing, 1, MOST_FORMS, is_form):
         return False
-    return len({word for word, rule in thing}) == len(thing) and round_of(thing) <= GREATEST_ROUND
+    return are_unlike([word for word, rule in thing]) and round_of(thing) <= GREATEST_ROUND
 
 
 def all_tests(forms):

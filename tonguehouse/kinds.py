@@ -3,6 +3,8 @@
 GREATEST = 10 ** 12
 LONGEST = 200
 BARRED_SIGN = 37
+FIGURES = "0123456789"
+LONGEST_NAME = 8
 
 
 def is_number(thing, low=0, high=GREATEST):
@@ -20,9 +22,14 @@ def is_text(thing, least=0, most=LONGEST):
     return isinstance(thing, str) and least <= len(thing) <= most and all([is_sign(sign) for sign in thing])
 
 
+def is_word(thing, most):
+    """Whether it is a text of 1 to most small letters."""
+    return is_text(thing, 1, most) and all(["a" <= sign <= "z" for sign in thing])
+
+
 def is_name(thing):
     """Whether it is a text of 1 to 8 small letters."""
-    return is_text(thing, 1, 8) and all(["a" <= sign <= "z" for sign in thing])
+    return is_word(thing, LONGEST_NAME)
 
 
 def is_tuple(thing, least, most):
@@ -33,3 +40,13 @@ def is_tuple(thing, least, most):
 def is_tuple_of(thing, least, most, is_part):
     """Whether it is a tuple of least to most things, each of them such as is_part says."""
     return is_tuple(thing, least, most) and all([is_part(part) for part in thing])
+
+
+def are_unlike(things):
+    """Whether no two of these texts or numbers are alike."""
+    return len(set(things)) == len(things)
+
+
+def are_rising(things):
+    """Whether each is above the one ahead."""
+    return all([one < other for one, other in zip(things, things[1:])])

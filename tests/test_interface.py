@@ -1,0 +1,27 @@
+"""The names and arguments that the document's interface lists."""
+
+import importlib
+import inspect
+import unittest
+
+FUNCTIONS = {
+    "counts": {"is_forms": "thing", "forms_of": "forms count"},
+    "covers": {"cover": "forms", "cover_holds": "forms thing", "last_with": "forms word low high d"},
+    "manners": {"is_manner": "thing", "said_count": "manner count", "said_day": "manner day"},
+    "measures": {"is_measure": "thing", "width": "measure text", "laid": "measure wide text", "fits": "measure room text"},
+    "blanks": {"are_blanks": "thing", "are_given": "blanks thing"},
+}
+
+
+class Interface(unittest.TestCase):
+    def test_functions_and_their_arguments(self):
+        for home, functions in FUNCTIONS.items():
+            module = importlib.import_module("tonguehouse." + home)
+            for name, arguments in functions.items():
+                function = getattr(module, name)
+                self.assertEqual(function.__module__, module.__name__)
+                self.assertEqual(" ".join(inspect.signature(function).parameters), arguments, name)
+
+
+if __name__ == "__main__":
+    unittest.main()
