@@ -173,3 +173,15 @@ def some_thing(some, blank):
 
 def some_given(some, blanks):
     return {blank[0]: some_thing(some, blank) for blank in blanks}
+
+
+def plain_count(manner, n, d):
+    """The figures one by one from the right, another way than by a format."""
+    whole, rest = n // 10 ** d, n % 10 ** d
+    text = ""
+    for at, figure in enumerate(reversed(str(whole))):
+        text = figure + (manner[0] if at % 3 == 0 and at else "") + text
+    if not d:
+        return text
+    figures = str(rest)
+    return text + manner[1] + "0" * (d - len(figures)) + figures

@@ -10,6 +10,12 @@ FUNCTIONS = {
     "manners": {"is_manner": "thing", "said_count": "manner count", "said_day": "manner day"},
     "measures": {"is_measure": "thing", "width": "measure text", "laid": "measure wide text", "fits": "measure room text"},
     "blanks": {"are_blanks": "thing", "are_given": "blanks thing"},
+    "pieces": {"are_pieces": "blanks thing", "lacks": "forms blanks pieces", "used": "pieces"},
+    "sayings": {"said": "tongue pieces given", "said_ways": "tongue pieces given"},
+    "rooms": {"widest": "measure tongue blanks pieces", "rows_of": "measure tongue blanks pieces wide",
+              "in_room": "measure tongue blanks pieces room"},
+    "editions": {"is_edition": "thing", "like": "one other", "line_of": "editions e name", "in_line": "editions line",
+                 "news": "editions e"},
 }
 
 

@@ -1,7 +1,7 @@
 import unittest
 
 from tests.bending import OTHERS, SIGN, Says, bent, is_row_of, is_str, nested
-from tests.oracle import seeded
+from tests.oracle import plain_count, seeded
 from tonguehouse.manners import is_manner, said_count, said_day
 
 PLAIN = (",", ".", "Y-M-D", ('"', '"'))
@@ -16,18 +16,6 @@ def plainly_manner(thing):
     if not is_str(group, r"[!-$&-/:-~]?") or not is_str(point, r"[!-$&-/:-~]") or group == point:
         return False
     return is_str(day, r"[!-$&-~]{1,12}") and is_row_of(quotes, 2, 2, lambda text: is_str(text, r"[!-$&-~]{0,2}"))
-
-
-def plain_count(manner, n, d):
-    """The figures one by one from the right, another way than by a format."""
-    whole, rest = n // 10 ** d, n % 10 ** d
-    text = ""
-    for at, figure in enumerate(reversed(str(whole))):
-        text = figure + (manner[0] if at % 3 == 0 and at else "") + text
-    if not d:
-        return text
-    figures = str(rest)
-    return text + manner[1] + "0" * (d - len(figures)) + figures
 
 
 class IsManner(Says, unittest.TestCase):

@@ -106,16 +106,24 @@ def stretches(low, high, scale):
     return [(top, top, 0, top_rest), between, (bottom, bottom, bottom_rest, scale - 1)]
 
 
-def last_with(forms, word, low, high, d):
-    """The greatest n from low to high such that the word is the first form of (n, d), or None."""
+def last_of_each(forms, low, high, d):
+    """By each word that is the first form of some (n, d) with n from low to high: the greatest such n."""
     pairs = form_bits(forms)
     held = row_bits(forms, "places", d)
     scale = scale_of(d)
+    last = {}
     for least, greatest, least_rest, greatest_rest in stretches(low, high, scale):
         wholes = unlike(forms, "whole", falling_wholes(forms, least, greatest))
         rests = unlike(forms, "rest", list(range(greatest_rest, least_rest - 1, -1)))
         for whole, whole_bits in wholes:
             for rest, rest_bits in rests:
-                if words_with(pairs, whole_bits & rest_bits & held)[:1] == [word]:
-                    return whole * scale + rest
-    return None
+                for word in words_with(pairs, whole_bits & rest_bits & held)[:1]:
+                    last.setdefault(word, whole * scale + rest)
+            if len(last) == len(forms):
+                return last
+    return last
+
+
+def last_with(forms, word, low, high, d):
+    """The greatest n from low to high such that the word is the first form of (n, d), or None."""
+    return last_of_each(forms, low, high, d).get(word)
