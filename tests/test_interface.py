@@ -16,6 +16,10 @@ FUNCTIONS = {
               "in_room": "measure tongue blanks pieces room"},
     "editions": {"is_edition": "thing", "like": "one other", "line_of": "editions e name", "in_line": "editions line",
                  "news": "editions e"},
+    "faults": {"are_terms": "thing", "faults": "measure tongue terms source pieces",
+               "is_fault": "measure tongue terms source pieces thing"},
+    "meets": {"met": "base one other"},
+    "whys": {"is_why": "made deeds e tongue name given thing"},
 }
 
 

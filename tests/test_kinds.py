@@ -1,6 +1,9 @@
 import unittest
 
-from tonguehouse.kinds import are_rising, are_unlike, is_name, is_number, is_text, is_tuple, is_tuple_of, is_word
+from tests.bending import OTHERS, bent
+from tonguehouse.kinds import (
+    are_rising, are_unlike, is_just, is_name, is_number, is_text, is_tuple, is_tuple_of, is_word,
+)
 
 
 class Kinds(unittest.TestCase):
@@ -59,6 +62,12 @@ class Kinds(unittest.TestCase):
             self.assertIs(are_rising(things), rising)
         self.assertIs(are_rising((("a", "b"), ("a", "c"), ("b", "a"))), True)
         self.assertIs(are_rising((("a", "b"), ("a", "b"))), False)
+
+    def test_just_what_is_told(self):
+        for told in (0, 1, "a", "", None, (), (0, 1), ("a", (1, None)), (((0,), "a"), ((1, 0), "b"), None)):
+            self.assertIs(is_just(told, told), True)
+            for thing in list(bent(told)) + list(OTHERS):
+                self.assertIs(is_just(told, thing), repr(thing) == repr(told), (told, thing))
 
 
 if __name__ == "__main__":

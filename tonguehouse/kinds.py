@@ -50,3 +50,11 @@ def are_unlike(things):
 def are_rising(things):
     """Whether each is above the one ahead."""
     return all([one < other for one, other in zip(things, things[1:])])
+
+
+def is_just(told, thing):
+    """Whether the thing, whatever it is, is what is told: tuples, texts, numbers and None, no truth for a number."""
+    if isinstance(told, tuple):
+        many = len(told)
+        return is_tuple(thing, many, many) and all([is_just(part, other) for part, other in zip(told, thing)])
+    return thing == told and not isinstance(thing, bool)
