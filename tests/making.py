@@ -13,7 +13,7 @@ N = ("n", "number", (0, 99, 0))
 WHO = ("who", "word", (3, ("he", "she")))
 DAY = ("day", "day", ())
 BLANKS = ((), (N,), (N, WHO), (DAY, N))
-ROOMS = ((30, 2), (20, 1), (10, 2), (8, 2), (8, 3))
+ROOMS = ((30, 2), (30, 1), (12, 2), (9, 2), (9, 3))
 NAMES = ("a", "b", "c", "d")
 HANDS = ("ann", "bob", "cid")
 TONGUE_NAMES = ("de", "fr", "it", "pl", "no", "sv")
@@ -107,7 +107,7 @@ def some_tell(some, made, deeds):
     source = some.choice(plain_editions(made, deeds)[e][0])
     tells = of_word(deeds, "tell")
     base = None
-    pieces = some_words(some, tongue[0], source[1]) + some.choice(((), (), (" filefile",), ("wider",)))
+    pieces = some_words(some, tongue[0], source[1]) + some.choice(((), (), (" filefile file",), ("widerwider",)))
     if tells and some.random() < 0.5:
         base = some.randrange(len(tells))
         old = tells[base]

@@ -20,6 +20,23 @@ FUNCTIONS = {
                "is_fault": "measure tongue terms source pieces thing"},
     "meets": {"met": "base one other"},
     "whys": {"is_why": "made deeds e tongue name given thing"},
+    "lists": {"delta": "one other", "led": "rows delta"},
+    "words": {"written": "pieces", "read": "blanks text"},
+}
+# What stands behind a bare star stands behind it here too.
+METHODS = {
+    ("houses", "House"): {
+        "__init__": "measure name tongue edition", "new_tongue": "name tongue falls terms", "new_rights": "name rights",
+        "new_edition": "edition", "tell_text": "hand tongue e name pieces * base=None", "let_text": "hand number",
+        "send_back": "hand number", "call_back": "hand number", "back": "", "tried": "deeds * tell=None", "its_deeds": "",
+        "__len__": "", "__eq__": "other", "__str__": "", "its_log": "", "its_editions": "* at=None", "its_tongues": "* at=None",
+        "its_rights": "name * at=None", "its_telling": "number * at=None", "show_text": "e tongue name given * at=None",
+        "found_for": "e tongue name * at=None", "why_shown": "e tongue name given * at=None", "list_for": "e tongue * at=None",
+    },
+    ("programs", "Program"): {
+        "__init__": "rows tongues", "its_number": "", "take_delta": "number delta", "its_rows": "", "show_text": "name given",
+        "__len__": "", "__eq__": "other",
+    },
 }
 
 
@@ -31,6 +48,17 @@ class Interface(unittest.TestCase):
                 function = getattr(module, name)
                 self.assertEqual(function.__module__, module.__name__)
                 self.assertEqual(" ".join(inspect.signature(function).parameters), arguments, name)
+
+    def test_methods_stand_in_the_class_itself(self):
+        for (home, name), methods in METHODS.items():
+            own = vars(getattr(importlib.import_module("tonguehouse." + home), name))
+            for method, arguments in methods.items():
+                told = str(inspect.signature(own[method])).strip("()").replace(",", "")
+                self.assertEqual(told, ("self " + arguments).strip(), method)
+
+    def test_constants(self):
+        houses = importlib.import_module("tonguehouse.houses")
+        self.assertEqual((houses.DEEDS, houses.LINES), (120, 8))
 
 
 if __name__ == "__main__":

@@ -139,11 +139,36 @@ class Language(unittest.TestCase):
                 if isinstance(node, ast.Call) and isinstance(node.func, ast.Attribute):
                     self.assertIn(node.func.attr, METHODS | own, (path, node.lineno))
 
+    def test_no_name_is_a_method_and_an_attribute(self):
+        methods, attributes, read = set(), set(), set()
+        for path, tree in trees():
+            called = {id(node.func) for node in ast.walk(tree) if isinstance(node, ast.Call)}
+            for node in ast.walk(tree):
+                if isinstance(node, ast.ClassDef):
+                    methods |= {part.name for part in node.body if isinstance(part, ast.FunctionDef)}
+                if isinstance(node, ast.Attribute) and isinstance(node.ctx, ast.Store):
+                    self.assertIsInstance(node.value, ast.Name, (path, node.lineno))
+                    attributes.add(node.attr)
+                if isinstance(node, ast.Attribute) and isinstance(node.ctx, ast.Load) and id(node) not in called:
+                    read.add(node.attr)
+        self.assertEqual(methods & attributes, set())
+        self.assertLessEqual(read, attributes)
+        self.assertEqual((methods | attributes) & set(dir(str) + dir(list) + dir(dict) + dir(int) + dir(set)) - DUNDERS, set())
+
+    def test_a_finally_is_plain(self):
+        allowed = (ast.Assign, ast.If, ast.Name, ast.Attribute, ast.Constant, ast.Tuple, ast.BinOp, ast.Add, ast.Compare,
+                   ast.Is, ast.IsNot, ast.Load, ast.Store)
+        for path, tree in trees():
+            for node in ast.walk(tree):
+                for part in node.finalbody if isinstance(node, ast.Try) else ():
+                    for inner in ast.walk(part):
+                        self.assertIsInstance(inner, allowed, (path, part.lineno))
+
     def test_strings_have_plain_escapes(self):
         for path in files():
             for token in tokenize.generate_tokens(io.StringIO(path.read_text("ascii")).readline):
                 if token.type == tokenize.STRING:
-                    self.assertEqual(re.findall(r"\\[^nt\\'\"]", token.string), [], path)
+                    self.assertLessEqual(set(re.findall(r"\\(.)", token.string, re.DOTALL)), set("nt\\'\""), path)
 
 
 if __name__ == "__main__":

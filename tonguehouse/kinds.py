@@ -4,6 +4,7 @@ GREATEST = 10 ** 12
 LONGEST = 200
 BARRED_SIGN = 37
 FIGURES = "0123456789"
+LETTERS = "abcdefghijklmnopqrstuvwxyz"
 LONGEST_NAME = 8
 
 

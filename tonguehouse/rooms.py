@@ -6,11 +6,10 @@ chooses the same words. So of all numbers, words and days that choose alike the 
 
 from tonguehouse.blanks import LAST_DAY
 from tonguehouse.covers import last_of_each
+from tonguehouse.kinds import LETTERS
 from tonguehouse.measures import PLAIN_WIDE, fits, laid, sign_widths, width
 from tonguehouse.pieces import names_in
 from tonguehouse.sayings import said
-
-LETTERS = "abcdefghijklmnopqrstuvwxyz"
 
 
 def widest_letter(measure):
