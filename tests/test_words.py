@@ -185,6 +185,12 @@ class NoTextAt(unittest.TestCase):
                          ("{\"{n:one |two {\"", 16), ("{\"{n}", 5)):
             self.breaks(text, at)
 
+    def test_signs_that_no_text_may_have(self):
+        for text, at in (("a\n", 1), ("\t", 0), ("{\"a\x25}", 3), ("{n:one \xe9", 7), ("{n}\x7f", 3)):
+            with self.assertRaises(NoText) as caught:
+                read(BLANKS, text)
+            self.assertEqual(caught.exception.at, at)
+
     def test_the_form_comes_ahead_of_the_pieces(self):
         self.breaks("{zz}{", 5)
         self.breaks("x" * 200 + "}", 200)

@@ -65,6 +65,7 @@ class House:
         numbers = None
         stood = 0
         self.log = self.log[-LINES:] + (("begin", len(rows)),)
+        self.busy = True
         try:
             numbers = self.numbers_of(rows, tell)
             stood = len(rows)
@@ -143,7 +144,7 @@ class House:
         return self.moments[at]
 
     def refuse_busy(self):
-        """Refuse deeds while tell is called."""
+        """Refuse deeds while others are being tried, as within tell."""
         if self.busy:
             raise Busy("deeds are being tried")
 
@@ -169,7 +170,5 @@ class House:
             if deed[0] == "tell":
                 numbers.append(len(self.moments[-1].tellings) - 1)
             if tell is not None:
-                self.busy = True
                 tell(self)
-                self.busy = False
         return tuple(numbers)

@@ -26,6 +26,7 @@ class Moment:
 
     def __init__(self, made):
         measure, own, tongue, edition = made
+        self.made = made
         self.measure = measure
         self.own = own
         self.deeds = ()
@@ -41,8 +42,7 @@ class Moment:
 
 def copied(moment):
     """Another moment at which the same stands."""
-    own_tongue = moment.tongues[moment.own][0]
-    other = Moment((moment.measure, moment.own, own_tongue, moment.editions[0]))
+    other = Moment(moment.made)
     other.deeds = moment.deeds
     other.editions = moment.editions
     other.tongues = dict(moment.tongues)

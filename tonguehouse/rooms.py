@@ -9,7 +9,7 @@ from tonguehouse.covers import last_of_each
 from tonguehouse.kinds import LETTERS
 from tonguehouse.measures import PLAIN_WIDE, fits, laid, sign_widths, width
 from tonguehouse.pieces import names_in
-from tonguehouse.sayings import said
+from tonguehouse.sayings import spoken
 
 
 def widest_letter(measure):
@@ -19,35 +19,39 @@ def widest_letter(measure):
 
 
 def widest_things(measure, forms, blank, chooses):
-    """The widest thing for the blank, or, where it chooses in a by, one for each word that it may choose."""
+    """(word, thing): the widest thing for the blank, or, where it chooses in a by, that for each word it may choose."""
     name, sort, more = blank
     if sort == "day":
-        return [LAST_DAY]
+        return [("", LAST_DAY)]
     if sort == "word":
         most, kinds = more
         text = widest_letter(measure) * most
-        return [(text, kind) for kind in (kinds if chooses else kinds[:1])]
+        return [(kind, (text, kind)) for kind in (kinds if chooses else kinds[:1])]
     low, high, d = more
     if not chooses:
-        return [(high, d)]
-    return [(n, d) for n in last_of_each(forms, low, high, d).values()]
+        return [("", (high, d))]
+    return [(word, (n, d)) for word, n in last_of_each(forms, low, high, d).items()]
 
 
 def widest_given(measure, tongue, blanks, pieces):
-    """Given things for all that blanks may choose together, the widest ones of each."""
+    """(given, words) for all that blanks may choose together: the widest things of each, and the words they choose."""
     choosing = names_in(pieces, "by")
-    rows = [{}]
+    rows = [({}, {})]
     for blank in blanks:
-        things = widest_things(measure, tongue[0], blank, blank[0] in choosing)
-        rows = [{**row, blank[0]: thing} for row in rows for thing in things]
+        name = blank[0]
+        things = widest_things(measure, tongue[0], blank, name in choosing)
+        rows = [
+            ({**given, name: thing}, {**words, name: word})
+            for given, words in rows for word, thing in things
+        ]
     return rows
 
 
 def widest(measure, tongue, blanks, pieces):
     """(wide, given): the greatest width of what is said, and given things that reach it."""
     most = (-1, {})
-    for given in widest_given(measure, tongue, blanks, pieces):
-        wide = width(measure, said(tongue, pieces, given))
+    for given, words in widest_given(measure, tongue, blanks, pieces):
+        wide = width(measure, spoken(tongue[1], pieces, given, words))
         if wide > most[0]:
             most = (wide, given)
     return most
@@ -56,8 +60,8 @@ def widest(measure, tongue, blanks, pieces):
 def rows_of(measure, tongue, blanks, pieces, wide):
     """(rows, given): the most lines of what is said in so wide a room, None where there are none for some given."""
     most = (0, {})
-    for given in widest_given(measure, tongue, blanks, pieces):
-        lines = laid(measure, wide, said(tongue, pieces, given))
+    for given, words in widest_given(measure, tongue, blanks, pieces):
+        lines = laid(measure, wide, spoken(tongue[1], pieces, given, words))
         if lines is None:
             return (None, given)
         if len(lines) > most[0]:
@@ -67,7 +71,7 @@ def rows_of(measure, tongue, blanks, pieces, wide):
 
 def in_room(measure, tongue, blanks, pieces, room):
     """True where what is said fits the room for all given things, else such things for which it does not."""
-    for given in widest_given(measure, tongue, blanks, pieces):
-        if not fits(measure, room, said(tongue, pieces, given)):
+    for given, words in widest_given(measure, tongue, blanks, pieces):
+        if not fits(measure, room, spoken(tongue[1], pieces, given, words)):
             return given
     return True
